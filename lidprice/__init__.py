@@ -1,0 +1,1 @@
+"""Lidprice: boxes with lids, and what to open next."""
