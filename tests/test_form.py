@@ -41,6 +41,12 @@ def bound_names(tree):
     return names
 
 
+def bound_at_top(tree):
+    names = [node.name for node in tree.body if isinstance(node, (ast.FunctionDef, ast.ClassDef))]
+    names.extend(target.id for node in tree.body if isinstance(node, ast.Assign) for target in node.targets)
+    return names
+
+
 class Form(unittest.TestCase):
     def setUp(self):
         self.files = sorted(PACKAGE.rglob("*.py"))
@@ -99,8 +105,7 @@ class Form(unittest.TestCase):
 
     def test_imports(self):
         defined = {
-            f"lidprice.{name[:-3]}": [node.name for node in tree.body if hasattr(node, "name")]
-            for name, tree in self.trees.items()
+            f"lidprice.{name[:-3]}": bound_at_top(tree) for name, tree in self.trees.items()
         }
         for place, node in self.each_node():
             if isinstance(node, ast.ImportFrom):
@@ -122,6 +127,34 @@ class Form(unittest.TestCase):
             for node in ast.walk(tree):
                 if isinstance(node, ast.Name) and node.id in dir(builtins):
                     self.assertIn(node.id, BUILT_IN, name)
+
+    def test_each_name_once_at_the_top(self):
+        for name, tree in self.trees.items():
+            imported = [alias.name for node in tree.body if isinstance(node, ast.ImportFrom) for alias in node.names]
+            names = bound_at_top(tree) + imported
+            self.assertEqual(sorted(set(names)), sorted(names), name)
+
+    def test_no_two_files_draw_from_one_another(self):
+        draws = {
+            f"lidprice.{name[:-3]}": {node.module for node in tree.body if isinstance(node, ast.ImportFrom)}
+            for name, tree in self.trees.items()
+        }
+        while draws:
+            free = [name for name in draws if not draws[name] & set(draws)]
+            self.assertTrue(free, draws)
+            for name in free:
+                draws.pop(name)
+
+    def test_no_name_is_a_method_and_a_value(self):
+        methods = {
+            inner.name for place, node in self.each_node() if isinstance(node, ast.ClassDef)
+            for inner in node.body if isinstance(inner, ast.FunctionDef)
+        }
+        values = {
+            node.attr for place, node in self.each_node()
+            if isinstance(node, ast.Attribute) and isinstance(node.ctx, ast.Store)
+        }
+        self.assertEqual(methods & values, set())
 
     def test_attributes(self):
         for place, node in self.each_node():
