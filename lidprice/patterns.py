@@ -23,6 +23,10 @@ def with_box(kept, box):
     return kept | (1 << box)
 
 
+def set_of(boxes):
+    return sum([1 << box for box in boxes])
+
+
 def is_numbers(things, fewest, most, greatest_number):
     if not isinstance(things, list) or not fewest <= len(things) <= most:
         return False

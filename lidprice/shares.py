@@ -41,6 +41,12 @@ def minus(one, other):
     return share(one[0] * other[1] - other[0] * one[1], one[1] * other[1])
 
 
+def total(fractions):
+    # Brought to lowest terms once, at the end: behind each of many fractions it would take far longer.
+    bottom = common_multiple([fraction[1] for fraction in fractions])
+    return share(sum([fraction[0] * (bottom // fraction[1]) for fraction in fractions]), bottom)
+
+
 def times(one, other):
     return share(one[0] * other[0], one[1] * other[1])
 

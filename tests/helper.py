@@ -1,6 +1,7 @@
 """What several test files share: wrong things of all kinds, stands, and what is known of them by other ways."""
 
 import functools
+import itertools
 import math
 import unittest
 from fractions import Fraction
@@ -8,6 +9,7 @@ from fractions import Fraction
 from lidprice.cases import Case
 from lidprice.errors import LidError, NoBox, NoPattern
 from lidprice.patterns import Few, Groups, Listed
+from lidprice.plans import Open, Stop, Take
 from lidprice.stands import End, Stage
 
 TOP_WORTH = 10 ** 9
@@ -28,8 +30,9 @@ def deep_things():
 def objects():
     end = End(1)
     stage = Stage(1, [(1, end), (2, end)])
+    knots = [Stop(), Take(0, Stop()), Open(0, [Stop(), Stop()])]
     return [end, stage, Case([end, stage]), Few(1), Groups([0], [1] * 6), Listed([0]), NoBox(), NoPattern(1, 2),
-            LidError()]
+            LidError()] + knots
 
 
 def plain_things():
@@ -64,6 +67,17 @@ def drawn_stands(source, many):
     stands.extend(drawn_stand(source, 4, 12, TOP_WORTH, TOP_WORTH // 8, 1000) for one in range(many // 4))
     stands.extend(drawn_stand(source, 4, 12, 3, 0, 2) for one in range(many // 4))
     return stands
+
+
+def drawn_boxes(source, many, most=300):
+    """So many boxes, of at most so many unfoldings."""
+    while True:
+        ends = [source.choice((1, 2, 2, 3, 3, 4, 6)) for box in range(many)]
+        if math.prod(ends) > most:
+            continue
+        if source.random() < 0.2:
+            return [drawn_stand(source, 3, own, TOP_WORTH, TOP_WORTH // 8, 1000) for own in ends]
+        return [drawn_stand(source, source.randrange(1, 5), own) for own in ends]
 
 
 def chain(stages, price=1, worth=9):
@@ -134,6 +148,134 @@ def table_by(pairs):
         shares[worth] = shares.get(worth, 0) + part
     scale = math.lcm(*[part.denominator for part in shares.values()])
     return [(told(worth), int(shares[worth] * scale)) for worth in sorted(shares)]
+
+
+def sets_by_vectors(vectors):
+    """The sets of boxes whose vectors of bits are independent: no sum of some of them is nought."""
+    sums = [0]
+    for vector in vectors:
+        sums += [so_far ^ vector for so_far in sums]
+    return [kept for kept in range(len(sums))
+            if all(sums[part] for part in range(1, len(sums)) if part & kept == part)]
+
+
+def drawn_pattern(source, many):
+    """A pattern without a flaw among so many boxes, of one of the three sorts."""
+    sort = source.randrange(3)
+    if sort == 0:
+        return Few(source.randrange(many + 1))
+    if sort == 1:
+        groups = [source.randrange(3) for box in range(source.choice((many, many, source.randrange(1, 7))))]
+        return Groups(groups, [source.randrange(1, 4) for group in range(6)])
+    sets = sets_by_vectors([source.randrange(8) for box in range(many)])
+    # What the pattern says of further boxes is not looked at.
+    sets += [kept for kept in range(1 << many, 64) if source.random() < 0.3]
+    source.shuffle(sets)
+    return Listed(sets)
+
+
+def sets_among(pattern, many):
+    return [kept for kept in range(1 << many) if pattern.may(kept)]
+
+
+def next_deeds(case):
+    deeds = []
+    for box in range(case.how_many()):
+        stand = case.stand(box)
+        if not stand.is_end():
+            deeds.extend(("open", box, row) for row in range(len(stand.rows)))
+        elif box not in case.kept():
+            deeds.append(("take", box))
+    return deeds
+
+
+def behind(case, deed):
+    return case.opened(deed[1], deed[2]) if deed[0] == "open" else case.taken(deed[1])
+
+
+def next_knots(case, pattern):
+    """The deeds ("take", box) and ("open", box) that a knot of a plan may have in a case."""
+    kept = sum(1 << box for box in case.kept())
+    deeds = sorted({deed[:2] for deed in next_deeds(case)})
+    return [deed for deed in deeds if deed[0] == "open" or pattern.may(kept | 1 << deed[1])]
+
+
+def drawn_plan(source, case, pattern, stops=0.15):
+    deeds = next_knots(case, pattern)
+    if not deeds or source.random() < stops:
+        return Stop()
+    name, box = source.choice(deeds)
+    if name == "take":
+        return Take(box, drawn_plan(source, case.taken(box), pattern, stops))
+    rows = range(len(case.stand(box).rows))
+    return Open(box, [drawn_plan(source, case.opened(box, row), pattern, stops) for row in rows])
+
+
+def all_plans(case, pattern):
+    """Each plan that there is from a case on."""
+    found = [Stop()]
+    for name, box in next_knots(case, pattern):
+        if name == "take":
+            found.extend(Take(box, plan) for plan in all_plans(case.taken(box), pattern))
+        else:
+            rows = range(len(case.stand(box).rows))
+            ways = [all_plans(case.opened(box, row), pattern) for row in rows]
+            found.extend(Open(box, list(plans)) for plans in itertools.product(*ways))
+    return found
+
+
+def known_leaves(stands, plan, kept=(), paid=0, way=(), part=Fraction(1)):
+    """The leaves of a plan, from its boxes told in full, a tuple, and from what it tells."""
+    if plan[0] == "stop":
+        return [(way, part, tuple(sorted(kept)), sum(stands[box][1] for box in kept) - paid)]
+    box = plan[1]
+    if plan[0] == "take":
+        return known_leaves(stands, plan[2], kept + (box,), paid, way, part)
+    price, rows = stands[box][1:]
+    weights = sum(weight for weight, stand in rows)
+    found = []
+    for row, (weight, stand) in enumerate(rows):
+        rest = stands[:box] + (stand,) + stands[box + 1:]
+        found += known_leaves(rest, plan[2][row], kept, paid + price, way + (row,), part * Fraction(weight, weights))
+    return found
+
+
+def known_worth(stands, plan):
+    return sum(part * had for way, part, kept, had in known_leaves(stands, plan))
+
+
+def known_best(tables, sets):
+    """The mean, over all that may come of lists of (cap, share), of the greatest sum of a set."""
+    best = Fraction(0)
+    for caps in itertools.product(*tables):
+        part = math.prod(share for cap, share in caps)
+        sums = [sum(caps[box][0] for box in range(len(caps)) if kept >> box & 1) for kept in sets]
+        best += part * max(sums)
+    return best
+
+
+def best_of(boxes, pattern):
+    return known_best([known_caps(box.told()) for box in boxes], sets_among(pattern, len(boxes)))
+
+
+def most_of(boxes, pattern):
+    """The most that any plan has in the mean, by going through all that can be done in each case."""
+    sets = sets_among(pattern, len(boxes))
+
+    @functools.cache
+    def most_from(stands, kept):
+        found = [Fraction(0)]
+        for box, stand in enumerate(stands):
+            if stand[0] == "stage":
+                weights = sum(weight for weight, after in stand[2])
+                found.append(-stand[1] + sum(
+                    Fraction(weight, weights) * most_from(stands[:box] + (after,) + stands[box + 1:], kept)
+                    for weight, after in stand[2]))
+            elif not kept >> box & 1 and kept | 1 << box in sets:
+                found.append(stand[1] + most_from(stands, kept | 1 << box))
+        return max(found)
+
+    return most_from(tuple(box.told() for box in boxes), 0)
 
 
 class ExactTest(unittest.TestCase):

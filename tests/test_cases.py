@@ -7,8 +7,8 @@ from lidprice.cases import Case
 from lidprice.errors import NoBox, NoDeed
 from lidprice.stands import End, Stage
 from lidprice.tables import above
-from tests.helper import (TOP_WORTH, ExactTest, chain, doc_stand, drawn_stand, known_cap, known_caps, known_reserve,
-                          objects, plain_things, table_by, told, wrong_things)
+from tests.helper import (TOP_WORTH, ExactTest, behind, chain, doc_stand, drawn_stand, known_cap, known_caps,
+                          known_reserve, next_deeds, objects, plain_things, table_by, told, wrong_things)
 
 
 class Known:
@@ -56,22 +56,7 @@ class Known:
         return sum(self.present(box)[1] for box in self.kept) - self.paid
 
 
-def next_deeds(case):
-    deeds = []
-    for box in range(case.how_many()):
-        stand = case.stand(box)
-        if not stand.is_end():
-            deeds.extend(("open", box, row) for row in range(len(stand.rows)))
-        elif box not in case.kept():
-            deeds.append(("take", box))
-    return deeds
-
-
-def behind(case, deed):
-    return case.opened(deed[1], deed[2]) if deed[0] == "open" else case.taken(deed[1])
-
-
-def drawn_boxes(source, many):
+def boxes_for_games(source, many):
     if source.random() < 0.2:
         return [drawn_stand(source, 3, 6, TOP_WORTH, TOP_WORTH // 8, 1000) for box in range(many)]
     return [drawn_stand(source, source.randrange(5), 8) for box in range(many)]
@@ -81,7 +66,7 @@ def drawn_games(seed, many):
     """Boxes, and the cases that come of them by deeds in an order that is drawn, till there is no deed more."""
     source = random.Random(seed)
     for game in range(many):
-        boxes = drawn_boxes(source, 1 + game % 6)
+        boxes = boxes_for_games(source, 1 + game % 6)
         cases = [Case(boxes)]
         while next_deeds(cases[-1]):
             cases.append(behind(cases[-1], source.choice(next_deeds(cases[-1]))))

@@ -32,6 +32,8 @@ UNUSED_WORDS = re.compile(
     r"\b(type|typing|typing_extensions|enum|Enum|IntEnum|StrEnum|Flag|IntFlag|Generic|Protocol|ABC|ABCMeta|namedtuple|"
     r"NamedTuple|TypedDict|TYPE_CHECKING|abstractmethod)\b|dataclass|overload|contextmanager"
 )
+WALKERS = set("list tuple dict sorted sum any all enumerate zip min max".split())
+WALKED = set("zip enumerate reversed range".split())
 OWN_OF_VALUES = {name for kind in (str, int, list, dict, set, bytes, tuple) for name in dir(kind)}
 
 
@@ -39,6 +41,17 @@ def bound_names(tree):
     names = [node.id for node in ast.walk(tree) if isinstance(node, ast.Name) and isinstance(node.ctx, ast.Store)]
     names.extend(node.arg for node in ast.walk(tree) if isinstance(node, ast.arg))
     return names
+
+
+def walked_at_once(tree):
+    """What stands where it is walked on the spot."""
+    places = []
+    for node in ast.walk(tree):
+        if isinstance(node, (ast.For, ast.comprehension)):
+            places.append(node.iter)
+        if isinstance(node, ast.Call) and isinstance(node.func, ast.Name) and node.func.id in WALKERS:
+            places.extend(node.args)
+    return places
 
 
 def bound_at_top(tree):
@@ -155,6 +168,16 @@ class Form(unittest.TestCase):
             if isinstance(node, ast.Attribute) and isinstance(node.ctx, ast.Store)
         }
         self.assertEqual(methods & values, set())
+
+    def test_walked_at_once(self):
+        for name, tree in self.trees.items():
+            walked = walked_at_once(tree)
+            for node in ast.walk(tree):
+                if isinstance(node, ast.Call) and isinstance(node.func, ast.Name) and node.func.id in WALKED:
+                    self.assertIn(node, walked, f"{name}:{node.lineno}")
+                if isinstance(node, ast.Call) and isinstance(node.func, ast.Attribute):
+                    if node.func.attr in ("items", "keys", "values"):
+                        self.assertIn(node, walked, f"{name}:{node.lineno}")
 
     def test_attributes(self):
         for place, node in self.each_node():
