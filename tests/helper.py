@@ -7,7 +7,9 @@ import unittest
 from fractions import Fraction
 
 from lidprice.cases import Case
+from lidprice.desk import Desk
 from lidprice.errors import LidError, NoBox, NoPattern
+from lidprice.offers import Offers
 from lidprice.patterns import Few, Groups, Listed
 from lidprice.plans import Open, Stop, Take
 from lidprice.stands import End, Stage
@@ -32,7 +34,7 @@ def objects():
     stage = Stage(1, [(1, end), (2, end)])
     knots = [Stop(), Take(0, Stop()), Open(0, [Stop(), Stop()])]
     return [end, stage, Case([end, stage]), Few(1), Groups([0], [1] * 6), Listed([0]), NoBox(), NoPattern(1, 2),
-            LidError()] + knots
+            LidError(), Offers([[(1, 1)]]), Desk()] + knots
 
 
 def plain_things():
