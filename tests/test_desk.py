@@ -241,13 +241,15 @@ class WholeTalksAgainstAModel(DeskTest):
                 self.assertEqual(outcome(desk, row), wanted, row)
                 kind = wanted[0] if isinstance(wanted, tuple) else row.split(" ")[0]
                 seen[kind] = seen.get(kind, 0) + 1
-        for kind in ("boxes", "pattern", "best", "next", "price", "open", "take", "stop", "NoDeed", "NoPattern", "TooMany"):
+        for kind in ("boxes", "pattern", "best", "next", "price", "open", "take", "stop", "NoDeed", "NoPattern",
+                     "TooMany"):
             self.assertGreater(seen.get(kind, 0), 2, kind)
 
 
 class Stops(DeskTest):
     def test_each_row_behind_it(self):
-        desk = self.assert_talk(("boxes 3 | 1[1:0 1:8]", "ok 2"), ("take 0", "had 3"), ("stop", "had 3 left 0 missed 3/2"))
+        desk = self.assert_talk(("boxes 3 | 1[1:0 1:8]", "ok 2"), ("take 0", "had 3"),
+                                ("stop", "had 3 left 0 missed 3/2"))
         for row in ("best", "next", "stop", "price 0", "take 1", "open 1 0", "pattern few 2", "pattern listed 1"):
             self.assert_unchanged(desk, NoDeed, row)
         for row in ("boxes", "boxes x", "pattern", "pattern few 9", "price", "price x", "open 1", "hello", "", None):
@@ -280,16 +282,23 @@ class Stops(DeskTest):
 class NoTexts(DeskTest):
     def wrong_rows(self):
         return [
-            "", " ", "boxes", "boxes ", "boxes  1", " boxes 1", "boxes 1 ", "Boxes 1", "boxes x", "boxes 1 | ", "boxes 01",
+            "", " ", "boxes", "boxes ", "boxes  1", " boxes 1", "boxes 1 ", "Boxes 1", "boxes x", "boxes 1 | ",
+            "boxes 01",
             "boxes 1 | 2 | 3 | 4 | 5 | 6 | 7", "boxes 1000000001", "boxes 1[]", "boxes 1[1:1", "boxes\t1", "boxes1",
-            "pattern", "pattern ", "pattern few", "pattern few 7", "pattern  few 1", "pattern few 1 ", "pattern listed 1 0",
-            "pattern listed 64", "patterns few 1", "pattern 1", "best ", " best", "best 1", "best best", "BEST", "bests",
-            "next ", "next 1", " next", "nex", "price", "price ", "price x", "price 00", "price 01", "price -1", "price +1",
-            "price 1 2", "price  1", "price 1 ", "price 1000000000", "price 0000000000", "price 1.", "price 1/2", "open",
+            "pattern", "pattern ", "pattern few", "pattern few 7", "pattern  few 1", "pattern few 1 ",
+            "pattern listed 1 0",
+            "pattern listed 64", "patterns few 1", "pattern 1", "best ", " best", "best 1", "best best", "BEST",
+            "bests",
+            "next ", "next 1", " next", "nex", "price", "price ", "price x", "price 00", "price 01", "price -1",
+            "price +1",
+            "price 1 2", "price  1", "price 1 ", "price 1000000000", "price 0000000000", "price 1.", "price 1/2",
+            "open",
             "open ", "open 0", "open 0 ", "open 0  1", "open  0 1", "open 0 1 2", "open 0 01", "open 00 1", "open 0 -1",
-            "open 0 x", "open x 0", "open 0 1 ", "open 0,1", "open 1000000000 0", "open 0 1000000000", "open 0/1", "open 0 /",
+            "open 0 x", "open x 0", "open 0 1 ", "open 0,1", "open 1000000000 0", "open 0 1000000000", "open 0/1",
+            "open 0 /",
             "open 0 / 1", "take", "take ", "take 0 0", "take 0 stop", "take x", "take 00", "take -0", "take 1000000000",
-            "take 0 ", "take  0", "stop ", " stop", "stop 0", "stopp", "stop\n", "best\n", "price 0\n", "hello", "had 3", "ok",
+            "take 0 ", "take  0", "stop ", " stop", "stop 0", "stopp", "stop\n", "best\n", "price 0\n", "hello",
+            "had 3", "ok",
             "ok 3", "keep 0", "price " + "1" * 5000, "take \u0660", "open 0 \u00b2"]
 
     def test_rows_that_are_none(self):
@@ -392,8 +401,8 @@ class TooManyUnfoldings(DeskTest):
 
     def test_with_one_kept_it_is_told_for_any(self):
         desk = self.assert_talk(("boxes " + " | ".join([WIDE] * 6), "ok 6"), ("next", "open 0"))
-        wanted = best([Stage(1, [(1, Stage(0, [(1, End(5 * row + inner)) for inner in range(3)])) for row in range(4)])] * 6,
-                      Few(1))
+        wide = Stage(1, [(1, Stage(0, [(1, End(5 * row + inner)) for inner in range(3)])) for row in range(4)])
+        wanted = best([wide] * 6, Few(1))
         self.assertEqual(desk.say("best"), written(wanted))
         self.assertEqual(desk.say("stop"), f"had 0 left 0 missed {written(wanted)}")
 

@@ -277,8 +277,8 @@ class AddsUp(ExactTest):
 
     def test_rows_of_a_ledger(self):
         self.assertIs(adds_up((59, 6), self.rows()), True)
-        for boxes, pattern, plan in (([doc_stand(), End(7)], Few(1), Stop()), ([coin(5)], Few(1), Open(0, [Stop()] * 2))):
-            self.assertIs(adds_up(best(boxes, pattern), ledger(boxes, pattern, plan)), True)
+        for boxes, plan in (([doc_stand(), End(7)], Stop()), ([coin(5)], Open(0, [Stop()] * 2))):
+            self.assertIs(adds_up(best(boxes, Few(1)), ledger(boxes, Few(1), plan)), True)
 
     def test_another_worth(self):
         for worth_of_rows in ((0, 1), (59, 7), (58, 6), (-59, 6), (10, 1), (59 * 10 ** 30 + 1, 6 * 10 ** 30)):

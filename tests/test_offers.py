@@ -394,7 +394,8 @@ def everything(offers):
     rule = [[True] * len(table) for table in offers.tables()]
     order = list(range(len(rule)))
     return copy.deepcopy((
-        offers.tables(), offers.top_mean(), offers.half(), offers.first_taken(order, (3, 1)), offers.least_taken((3, 1)),
+        offers.tables(), offers.top_mean(), offers.half(), offers.first_taken(order, (3, 1)),
+        offers.least_taken((3, 1)),
         offers.half_paper(), offers.worths_on(), offers.taken_by(rule), offers.rule_losses(rule)))
 
 

@@ -196,7 +196,8 @@ class Leaves(PlansTest):
         boxes = [stand, stand, stand]
         plan = Open(2, [Open(0, [Stop(), Take(0, Stop())]), Take(2, Open(1, [Stop(), Take(1, Stop())]))])
         self.assertEqual(leaves(boxes, Few(2), plan), [
-            ((0, 0), (1, 4), (), -2), ((0, 1), (1, 4), (0,), 6), ((1, 0), (1, 4), (2,), 6), ((1, 1), (1, 4), (1, 2), 14)])
+            ((0, 0), (1, 4), (), -2), ((0, 1), (1, 4), (0,), 6), ((1, 0), (1, 4), (2,), 6),
+            ((1, 1), (1, 4), (1, 2), 14)])
         self.assert_known(boxes, Few(2), plan)
         self.assertEqual([case.stand(1).is_end() for part, case in ends_of(boxes, Few(2), plan)],
                          [False, False, True, True])

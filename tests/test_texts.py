@@ -170,8 +170,10 @@ class Boxes(TextsTest):
                             "1  | 2", "1 |  2", "1 | | 2", "1 || 2", "1 2", "1 , 2", "1, 2")
 
     def test_no_box(self):
-        self.assert_no_text(read_box, "", " ", "1 ", " 1", "1 | 2", "1 |", "| 1", "-1", "+1", "01", "00", "0 1", "1.", "1.0",
-                            "1e3", "x", "1x", "1_000", "1,000", "0x1", "1\n", "\n1", "\t1", "1/2", "ten", "1[2:10 1:05]",
+        self.assert_no_text(read_box, "", " ", "1 ", " 1", "1 | 2", "1 |", "| 1", "-1", "+1", "01", "00", "0 1", "1.",
+                            "1.0",
+                            "1e3", "x", "1x", "1_000", "1,000", "0x1", "1\n", "\n1", "\t1", "1/2", "ten",
+                            "1[2:10 1:05]",
                             "03[2:10]", "3[02:10]", "3[2:10  1:5]", "3[ 2:10]", "3[2:10 ]", "3[2 :10]", "3[2: 10]",
                             "3 [2:10]", "3[2:10,1:5]", "3[2:10, 1:5]", "3[2:10;1:5]", "3(2:10)", "3{2:10}", "3[2-10]",
                             "3[2:10 1:5[1:0 1:40]", "3[2:10 1:5[1:0 1:40]]]", "3[2:-10]", "-3[2:10]", "3[-2:10]",
@@ -197,7 +199,8 @@ class Boxes(TextsTest):
         self.assert_cuts(read_boxes, write_boxes, is_boxes_text, "3[2:10 1:5] | 7 | 0[1:1]")
 
     def test_deep_and_long_texts(self):
-        self.assert_no_text(read_box, "1[1:" * 2500, "1[1:" * 1200 + "1" + "]" * 1200, "[" * 10000, "1[1:1" + " 1:1" * 2000,
+        self.assert_no_text(read_box, "1[1:" * 2500, "1[1:" * 1200 + "1" + "]" * 1200, "[" * 10000,
+                            "1[1:1" + " 1:1" * 2000,
                             "1[1:1 1:" * 1200, "1[1:1 1:2 1:3 1:" * 600, "1[1:1 1:" * 800 + "1" + "]" * 800)
         self.assert_no_text(read_boxes, "1 | " * 2500, "1[1:" * 2500, "1" * 10000, "1 | " * 2000 + "1", " " * 10000)
 
@@ -244,14 +247,16 @@ class Patterns(TextsTest):
     def test_no_pattern(self):
         self.assert_no_text(
             read_pattern, "", " ", "few", "few ", "few 7", "few 10", "few -1", "few 01", "few  1", " few 1", "few 1 ",
-            "few 1 2", "Few 1", "few1", "few x", "fewer 1", "groups", "groups ", "groups 0", "groups 0 /", "groups 0 / ",
+            "few 1 2", "Few 1", "few1", "few x", "fewer 1", "groups", "groups ", "groups 0", "groups 0 /",
+            "groups 0 / ",
             "groups / 1 1 1 1 1 1", "groups  / 1 1 1 1 1 1", "groups 6 / 1 1 1 1 1 1", "groups 0 / 1 1 1 1 1",
             "groups 0 / 1 1 1 1 1 1 1", "groups 0 / 7 1 1 1 1 1", "groups 0 0 0 0 0 0 0 / 1 1 1 1 1 1",
             "groups 0/ 1 1 1 1 1 1", "groups 0 /1 1 1 1 1 1", "groups 0  / 1 1 1 1 1 1", "groups 0 /  1 1 1 1 1 1",
             "groups 0 1 1 1 1 1 1", "groups 0 / 1 1 1 1 1 1 / 1", "groups 00 / 1 1 1 1 1 1", "groups 0 / 1 1 1 1 1 01",
             "listed", "listed ", "listed 64", "listed 1 0", "listed 0 0", "listed 0 1 1", "listed 0  1", "listed 0 1 ",
             "listed  0", "listed 0,1", "listed 0, 1", "listed 0 -1", "listed 0 2 1", "list 0", "listed 0 1 64",
-            "listed 0 / 1", "listed 63 62", "stop", "3", "few 1\n", "listed " + " ".join(["0"] * 65), "few " + "9" * 5000,
+            "listed 0 / 1", "listed 63 62", "stop", "3", "few 1\n", "listed " + " ".join(["0"] * 65),
+            "few " + "9" * 5000,
             "listed " + " ".join(str(kept) for kept in range(65)))
 
     def test_texts_around(self):
@@ -274,7 +279,8 @@ class Plans(TextsTest):
                          "take 1 open 2 (stop, open 0 (stop), stop, stop)")
 
     def test_read_out(self):
-        self.assertEqual(read_plan("open 0 (take 0 stop, stop)").told(), ("open", 0, (("take", 0, ("stop",)), ("stop",))))
+        self.assertEqual(read_plan("open 0 (take 0 stop, stop)").told(),
+                         ("open", 0, (("take", 0, ("stop",)), ("stop",))))
         for text, kind in (("stop", Stop), ("take 3 stop", Take), ("open 3 (stop)", Open)):
             self.assertIs(type(read_plan(text)), kind)
             self.assertIsInstance(read_plan(text), Plan)
@@ -314,12 +320,15 @@ class Plans(TextsTest):
         self.assert_no_text(
             read_plan, "", " ", "stop ", " stop", "Stop", "sto", "stopp", "stop stop", "stop, stop", "(stop)", "take",
             "take ", "take 0", "take 0 ", "take stop", "take 0  stop", "take  0 stop", "take 6 stop", "take 10 stop",
-            "take 00 stop", "take 05 stop", "take -1 stop", "take 0 1 stop", "take 0 stop stop", "take 0, stop", "take0 stop",
+            "take 00 stop", "take 05 stop", "take -1 stop", "take 0 1 stop", "take 0 stop stop", "take 0, stop",
+            "take0 stop",
             "take 0stop", "take 0 (stop)", "open", "open 0", "open 0 ", "open 0 ()", "open 0 (", "open 0 (stop",
             "open 0 stop", "open 0 stop)", "open 0(stop)", "open 0  (stop)", "open 0 ( stop)", "open 0 (stop )",
             "open 0 (stop,stop)", "open 0 (stop , stop)", "open 0 (stop,  stop)", "open 0 (stop, )", "open 0 (, stop)",
-            "open 0 (stop,)", "open 0 (stop stop)", "open 6 (stop)", "open 01 (stop)", "open 0 (stop))", "open 0 ((stop))",
-            "open 0 (stop, stop, stop, stop, stop)", "open 0 [stop]", "open (stop)", "open 0 0 (stop)", "open 0 (take 0)",
+            "open 0 (stop,)", "open 0 (stop stop)", "open 6 (stop)", "open 01 (stop)", "open 0 (stop))",
+            "open 0 ((stop))",
+            "open 0 (stop, stop, stop, stop, stop)", "open 0 [stop]", "open (stop)", "open 0 0 (stop)",
+            "open 0 (take 0)",
             "keep 0 stop", "stop\n", "take 0\nstop", "open 1000000000000 (stop)", "take " + "9" * 5000 + " stop")
 
     def test_one_to_four_plans(self):
@@ -343,7 +352,8 @@ class Plans(TextsTest):
 
     def test_deep_and_long_texts(self):
         self.assert_no_text(read_plan, "take 0 " * 1428, "take 0 " * 1400 + "stop", "open 0 (" * 1250,
-                            "open 0 (" * 1000 + "stop" + ")" * 1000, "(" * 10000, "open 0 (stop" + ", stop" * 1600 + ")",
+                            "open 0 (" * 1000 + "stop" + ")" * 1000, "(" * 10000,
+                            "open 0 (stop" + ", stop" * 1600 + ")",
                             "open 0 (stop, " * 700, "open 0 (stop, stop, stop, " * 380, "open 0 (take 0 " * 660)
         # A text of nearly ten thousand signs with few knots on a way.
         plan = Stop()
@@ -393,7 +403,8 @@ class WhateverIsHandedIn(TextsTest):
 
     def test_drawn_texts(self):
         source = random.Random(137)
-        words = ["stop", "take", "open", "few", "groups", "listed", "0", "1", "2", "10", "64", " ", " ", "[", "]", ":", "|",
+        words = ["stop", "take", "open", "few", "groups", "listed", "0", "1", "2", "10", "64", " ", " ", "[", "]", ":",
+                 "|",
                  "/", "(", ")", ", ", " | ", " / ", "-", "01"]
         for one in range(3000):
             text = "".join(source.choice(words) for word in range(source.randrange(12)))

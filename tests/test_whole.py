@@ -80,7 +80,7 @@ def mean_of_talks(boxes_text, pattern_text):
     def went_on(rows, stands, part):
         desk = Desk()
         for row in rows:
-            answer = desk.say(row)
+            desk.say(row)
         told_next = desk.say("next").split(" ")
         if told_next[0] == "stop":
             words = desk.say("stop").split(" ")
@@ -260,7 +260,8 @@ class Multiplied(ExactTest):
             self.assertEqual(worth(more, pattern, plan), times(factor, worth(boxes, pattern, plan)))
             self.assertEqual(lost(more, pattern, plan), times(factor, lost(boxes, pattern, plan)))
             self.assertEqual(losses(more, pattern, plan), [
-                (way, times(factor, left), times(factor, missed)) for way, left, missed in losses(boxes, pattern, plan)])
+                (way, times(factor, left), times(factor, missed))
+                for way, left, missed in losses(boxes, pattern, plan)])
             self.assertEqual(ledger(more, pattern, plan), [
                 (way, part, had * factor[0], times(factor, left), times(factor, missed))
                 for way, part, had, left, missed in ledger(boxes, pattern, plan)])
