@@ -99,7 +99,7 @@ class Reader:
 
     def numbers(self):
         found = [self.number()]
-        # A blank may also part the numbers from what follows them, so figures must come behind it.
+        # A blank ahead of a / ends the first list of groups; behind any other one a number has to follow.
         while self.comes(" ") and not self.comes(" /"):
             self.need(" ")
             found.append(self.number())
